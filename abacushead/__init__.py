@@ -1,0 +1,1 @@
+"""Cheapest ways for a head on an endless row of places."""
