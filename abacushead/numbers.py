@@ -20,28 +20,19 @@ def is_number(base, value):
 
 def make_number(base, numerator, exponent):
     """Return the number numerator * base ** exponent in its form."""
-    if numerator == 0:
-        return (0, 0)
-    shortened, factors = without_factors(base, numerator)
-    if not has_few_digits(shortened):
-        raise LimitExceeded(MAX_DIGITS)
-    if not is_place(exponent + factors):
-        raise LimitExceeded(MAX_PLACE)
-    return (shortened, exponent + factors)
+    return within_limits(form_of(base, numerator, exponent))
 
 
 def plus(base, one, other):
     """Return the sum of two numbers."""
     require_numbers(base, [one, other])
-    low = min(one[1], other[1])
-    return make_number(base, units(base, one, low) + units(base, other, low), low)
+    return within_limits(sum_of(base, [one, other]))
 
 
 def minus(base, one, other):
     """Return the difference of two numbers."""
     require_numbers(base, [one, other])
-    low = min(one[1], other[1])
-    return make_number(base, units(base, one, low) - units(base, other, low), low)
+    return within_limits(sum_of(base, [one, negative(other)]))
 
 
 def scaled(base, number, places):
@@ -58,11 +49,49 @@ def floor_at(base, number, place):
 
 
 def units(base, number, place):
-    """Return the floor of a valid number divided by base ** place."""
+    """Return the floor of a number of any size divided by base ** place."""
     numerator, exponent = number
     if exponent < place:
         return numerator // power_of(base, place - exponent)
     return numerator * power_of(base, exponent - place)
+
+
+def negative(number):
+    """Return the number times -1."""
+    numerator, exponent = number
+    return (-numerator, exponent)
+
+
+def form_of(base, numerator, exponent):
+    """Return numerator * base ** exponent in the form of a number, of any size."""
+    if numerator == 0:
+        return (0, 0)
+    shortened, factors = without_factors(base, numerator)
+    return (shortened, exponent + factors)
+
+
+def sum_of(base, parts):
+    """Return the sum of parts (numerator, exponent) in the form of a number, of any size."""
+    amounts = {}
+    for numerator, exponent in parts:
+        if numerator != 0:
+            amounts[exponent] = amounts.get(exponent, 0) + numerator
+    place = max(amounts, default=0)
+    total = 0
+    for exponent in sorted(amounts, reverse=True):
+        total = total * power_of(base, place - exponent) + amounts[exponent]
+        place = exponent
+    return form_of(base, total, place)
+
+
+def within_limits(number):
+    """Return a number in its form, of any size, if it is not beyond the limits."""
+    numerator, exponent = number
+    if not has_few_digits(numerator):
+        raise LimitExceeded(MAX_DIGITS)
+    if not is_place(exponent):
+        raise LimitExceeded(MAX_PLACE)
+    return number
 
 
 def require_numbers(base, values):
