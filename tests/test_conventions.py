@@ -3,30 +3,110 @@
 import inspect
 import unittest
 
-from abacushead import numbers, rows
+from abacushead import choices, effects, numbers, rows, running, sequences, shortest, states, tables
 from abacushead.errors import InvalidNumber, InvalidRow
 from abacushead.numbers import floor_at, is_number, make_number, minus, plus, scaled
 from abacushead.rows import Row
 
-PARAMETERS = {
-    is_number: ["base", "value"],
-    make_number: ["base", "numerator", "exponent"],
-    plus: ["base", "one", "other"],
-    minus: ["base", "one", "other"],
-    scaled: ["base", "number", "places"],
-    floor_at: ["base", "number", "place"],
+SIGNATURES = {
+    numbers: {
+        "is_number": "(base, value)", "make_number": "(base, numerator, exponent)", "plus": "(base, one, other)",
+        "minus": "(base, one, other)", "scaled": "(base, number, places)", "floor_at": "(base, number, place)",
+    },
+    states: {"is_state": "(row, value)", "make_state": "(row, numerator, position)"},
+    sequences: {
+        "is_sequence": "(value)", "joined": "(*sequences)", "operations": "(sequence)", "reversed_of": "(sequence)",
+        "expanded": "(sequence)", "packed": "(text)",
+    },
+    running: {
+        "run": "(row, state, sequence)", "walk": "(row, state, sequence)", "cost_of": "(row, sequence)",
+        "visited": "(state, sequence)",
+    },
+    effects: {
+        "is_effect": "(base, value)", "effect_of": "(base, sequence)", "composed": "(base, *effects)",
+        "inverse": "(base, effect)", "changed": "(base, state, effect)",
+    },
+    shortest: {
+        "distance": "(row, start, goal)", "best_plan": "(row, start, goal)",
+        "plan_cost": "(row, start, goal, value)", "perform": "(row, start, goal, plan)",
+        "shortest": "(row, start, goal)",
+    },
+    tables: {
+        "table_range": "(row, start, goal)", "make_table": "(row, start, goal)",
+        "check_table": "(row, start, goal, bound, value)",
+    },
+    choices: {"slacks": "(row, start, goal)", "first_operations": "(row, start, goal)"},
 }
+
+FUNCTIONS = [(module, name) for module in SIGNATURES for name in SIGNATURES[module]]
+
+ROW = Row(10)
+START, GOAL = ((0, 0), 0), ((9, 0), 0)
+WAY = [("R", 2), ("A", 5), ("L", 1)]
+
+# Arguments by their names, in another order than in the signatures, and the result.
+CALLS = [
+    (states.is_state, {"value": START, "row": ROW}, True),
+    (states.make_state, {"position": 3, "row": ROW, "numerator": 500}, ((5, 2), 3)),
+    (sequences.is_sequence, {"value": WAY}, True),
+    (sequences.reversed_of, {"sequence": WAY}, [("R", 1), ("S", 5), ("L", 2)]),
+    (sequences.expanded, {"sequence": WAY}, "RRAAAAAL"),
+    (sequences.packed, {"text": "RRA"}, [("R", 2), ("A", 1)]),
+    (running.run, {"sequence": WAY, "state": START, "row": ROW}, ((5, 2), 1)),
+    (running.cost_of, {"sequence": WAY, "row": ROW}, 8),
+    (running.visited, {"sequence": WAY, "state": START}, (0, 2)),
+    (effects.is_effect, {"value": ((3, 0), 1), "base": 10}, True),
+    (effects.effect_of, {"sequence": WAY, "base": 10}, ((5, 2), 1)),
+    (effects.inverse, {"effect": ((3, 0), 1), "base": 10}, ((-3, -1), -1)),
+    (effects.changed, {"effect": ((3, 0), 1), "state": ((7, 0), 2), "base": 10}, ((307, 0), 3)),
+    (shortest.distance, {"goal": GOAL, "row": ROW, "start": START}, 4),
+    (shortest.best_plan, {"goal": GOAL, "row": ROW, "start": START}, (0, 1, [-1, 1])),
+    (shortest.plan_cost, {"value": (0, 0, [9]), "goal": GOAL, "row": ROW, "start": START}, 9),
+    (shortest.perform, {"plan": (0, 0, [9]), "goal": GOAL, "row": ROW, "start": START}, [("A", 9)]),
+    (shortest.shortest, {"goal": ((9, 0), 1), "row": ROW, "start": START}, [("S", 1), ("R", 1), ("A", 1)]),
+    (tables.table_range, {"goal": GOAL, "row": ROW, "start": START}, (0, 1)),
+    (tables.make_table, {"goal": GOAL, "row": ROW, "start": START}, [(0, None), (9, 1)]),
+    (tables.check_table, {"value": [(0, None), (9, 1)], "bound": 4, "goal": GOAL, "row": ROW, "start": START}, True),
+    (choices.slacks, {"goal": GOAL, "row": ROW, "start": START}, {"R": 0, "L": 2, "A": 2, "S": 0}),
+    (choices.first_operations, {"goal": GOAL, "row": ROW, "start": START}, "RS"),
+]
 
 
 class ParametersTest(unittest.TestCase):
-    def test_names(self):
-        for function, names in PARAMETERS.items():
+    def test_signatures(self):
+        for module, name in FUNCTIONS:
+            with self.subTest(name=name):
+                self.assertEqual(str(inspect.signature(getattr(module, name))), SIGNATURES[module][name])
+
+    def test_further_calls_by_name(self):
+        for function, arguments, expected in CALLS:
             with self.subTest(function=function.__name__):
-                parameters = inspect.signature(function).parameters.values()
-                self.assertEqual([parameter.name for parameter in parameters], names)
-                for parameter in parameters:
-                    self.assertEqual(parameter.kind, parameter.POSITIONAL_OR_KEYWORD)
-                    self.assertIs(parameter.default, parameter.empty)
+                result = function(**arguments)
+                self.assertEqual(result, expected)
+                self.assertIs(type(result), type(expected))
+
+    def test_further_calls_by_position(self):
+        for function, arguments, expected in CALLS:
+            with self.subTest(function=function.__name__):
+                names = list(inspect.signature(function).parameters)
+                self.assertEqual(function(*[arguments[name] for name in names]), expected)
+
+    def test_iterators_by_name(self):
+        self.assertEqual("".join(sequences.operations(sequence=WAY)), "RRAAAAAL")
+        self.assertEqual(list(running.walk(sequence=[("A", 5), ("R", 1)], state=START, row=ROW)),
+                         [((5, 0), 0), ((5, 0), 1)])
+
+    def test_any_number_of_arguments(self):
+        self.assertEqual(sequences.joined(WAY, WAY), WAY + WAY)
+        self.assertEqual(effects.composed(10, ((3, 0), 1), ((3, 0), 1)), ((33, 0), 2))
+        self.assertRaises(TypeError, sequences.joined, sequences=WAY)
+
+    def test_arguments_are_needed(self):
+        for function, arguments, _ in CALLS:
+            with self.subTest(function=function.__name__):
+                for name in arguments:
+                    others = {other: arguments[other] for other in arguments if other != name}
+                    self.assertRaises(TypeError, function, **others)
 
     def test_calls_by_name(self):
         self.assertIs(is_number(base=10, value=(5, 2)), True)
@@ -71,10 +151,15 @@ class ParametersTest(unittest.TestCase):
 
 class InterfaceTest(unittest.TestCase):
     def test_functions_are_defined_where_they_are_listed(self):
-        for function in PARAMETERS:
-            with self.subTest(function=function.__name__):
+        for module, name in FUNCTIONS:
+            with self.subTest(name=name):
+                function = getattr(module, name)
                 self.assertTrue(inspect.isfunction(function))
-                self.assertEqual(function.__module__, numbers.__name__)
+                self.assertEqual((function.__module__, function.__name__), (module.__name__, name))
+
+    def test_functions_that_yield(self):
+        yielding = [name for module, name in FUNCTIONS if inspect.isgeneratorfunction(getattr(module, name))]
+        self.assertEqual(yielding, ["operations", "walk"])
 
     def test_row_is_defined_where_it_is_listed(self):
         self.assertEqual(Row.__module__, rows.__name__)
@@ -85,6 +170,23 @@ class InterfaceTest(unittest.TestCase):
 
 
 class RepeatedCallsTest(unittest.TestCase):
+    def test_further_equal_calls_return_equal_results(self):
+        for function, arguments, expected in CALLS:
+            with self.subTest(function=function.__name__):
+                before = repr({name: arguments[name] for name in arguments if name != "row"})
+                results = [function(**arguments) for _ in range(3)]
+                self.assertEqual(results, [expected] * 3)
+                self.assertEqual(repr({name: arguments[name] for name in arguments if name != "row"}), before)
+
+    def test_returned_lists_and_dicts_are_new(self):
+        for function, arguments, expected in CALLS:
+            if isinstance(expected, (list, dict)):
+                with self.subTest(function=function.__name__):
+                    self.assertIsNot(function(**arguments), function(**arguments))
+                    function(**arguments).clear()
+                    self.assertEqual(function(**arguments), expected)
+        self.assertIsNot(shortest.best_plan(ROW, START, GOAL)[2], shortest.best_plan(ROW, START, GOAL)[2])
+
     def test_equal_calls_return_equal_results(self):
         number = (123, -2)
         for _ in range(3):
