@@ -2,7 +2,7 @@
 
 from abacushead.errors import InvalidEffect, InvalidState, LimitExceeded
 from abacushead.integers import MAX_PLACE, is_place
-from abacushead.numbers import make_number, sum_of, within_limits
+from abacushead.numbers import make_number, moved, sum_of, within_limits
 from abacushead.sequences import additions, positions_after, require_sequence
 from abacushead.states import is_pair
 
@@ -27,8 +27,8 @@ def composed(base, *effects):
     require_effects(base, effects)
     parts = []
     offset = 0
-    for (numerator, exponent), shift in effects:
-        parts.append((numerator, exponent + offset))
+    for number, shift in effects:
+        parts.append(moved(number, offset))
         offset += shift
     require_offset(offset)
     return (within_limits(sum_of(base, parts)), offset)
@@ -46,10 +46,10 @@ def changed(base, state, effect):
     if not is_pair(base, state):
         raise InvalidState(state)
     require_effects(base, [effect])
-    number, position = state
-    (numerator, exponent), offset = effect
+    start, position = state
+    number, offset = effect
     require_offset(position + offset)
-    total = sum_of(base, [number, (numerator, exponent + position)])
+    total = sum_of(base, [start, moved(number, position)])
     return (within_limits(total), position + offset)
 
 

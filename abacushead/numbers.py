@@ -62,6 +62,12 @@ def negative(number):
     return (-numerator, exponent)
 
 
+def moved(number, places):
+    """Return the number times base ** places, of any size, not in the form of a number."""
+    numerator, exponent = number
+    return (numerator, exponent + places)
+
+
 def form_of(base, numerator, exponent):
     """Return numerator * base ** exponent in the form of a number, of any size."""
     if numerator == 0:

@@ -10,14 +10,9 @@ def run(row, state, sequence):
     """Return the state after the sequence."""
     require_state(row, state)
     require_sequence(sequence)
-    number, start = state
-    positions = positions_after(start, sequence)
-    for index, position in enumerate(positions):
-        if not row.has_place(position):
-            raise OutOfRow(index)
     # Only the last number is limited; on the way it may be of any size.
-    last = within_limits(sum_of(row.base, [number] + additions(sequence, positions)))
-    return (last, positions[-1] if positions else start)
+    number, position = end_of(row, state, sequence)
+    return (within_limits(number), position)
 
 
 def walk(row, state, sequence):
@@ -44,6 +39,17 @@ def visited(state, sequence):
     require_sequence(sequence)
     positions = [state[1]] + positions_after(state[1], sequence)
     return (min(positions), max(positions))
+
+
+def end_of(row, state, steps):
+    """Return the state, of any size, after steps (operation, count) whose neighbours may be alike."""
+    number, start = state
+    positions = positions_after(start, steps)
+    for index, position in enumerate(positions):
+        if not row.has_place(position):
+            raise OutOfRow(index)
+    total = sum_of(row.base, [number] + additions(steps, positions))
+    return (total, positions[-1] if positions else start)
 
 
 def operation_cost(row, operation):

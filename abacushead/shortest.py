@@ -57,7 +57,11 @@ class Sweep:
     def end_cost(self, at, carry):
         """Return the cost of the last digit, and of all moves if the way ends at this place."""
         digit = self.floors[at] + carry
-        return self.row.add_cost * abs(digit) + self.row.move_cost * (2 * at - self.span)
+        return self.row.add_cost * abs(digit) + self.row.move_cost * self.moves(at)
+
+    def moves(self, at):
+        """Return the number of all moves if the way ends at this place."""
+        return 2 * at - self.span
 
     def digits_before(self, table, at, carry):
         """List the digits of a cheapest way to a place, by the least costs."""
@@ -70,6 +74,11 @@ class Sweep:
             carry = back[2]
         return digits[::-1]
 
+    def plan(self, table, at, carry):
+        """Return the plan of a cheapest way that ends at a place with a carry, by the least costs."""
+        digits = self.digits_before(table, at, carry) + [self.floors[at] + carry]
+        return (self.low, self.low + at, digits)
+
 
 def distance(row, start, goal):
     """Return the least cost of a sequence from start to goal within the row."""
@@ -81,8 +90,7 @@ def best_plan(row, start, goal):
     sweep = sweep_between(row, start, goal)
     table = sweep.least_costs()
     cost, at, carry = min(sweep.ends(table))
-    digits = sweep.digits_before(table, at, carry) + [sweep.floors[at] + carry]
-    return (sweep.low, sweep.low + at, digits)
+    return sweep.plan(table, at, carry)
 
 
 def plan_cost(row, start, goal, value):
@@ -104,14 +112,7 @@ def perform(row, start, goal, plan):
     # The digits are made on the long way from one end to the other, in the direction of the goal.
     if goal[1] < start[1]:
         stops = stops[::-1]
-    position = start[1]
-    runs = []
-    for place, digit in stops:
-        runs.append(move_run(place - position))
-        runs.append(digit_run(digit))
-        position = place
-    runs.append(move_run(goal[1] - position))
-    return merged(runs)
+    return sequence_through(start[1], stops + [(goal[1], 0)])
 
 
 def shortest(row, start, goal):
@@ -122,7 +123,17 @@ def shortest(row, start, goal):
 def sweep_between(row, start, goal):
     """Return the sweep between two values that should be states."""
     require_states(row, [start, goal])
+    return sweep_of_any(row, start, goal)
+
+
+def sweep_of_any(row, start, goal):
+    """Return the sweep between two states whose numbers may be of any size."""
     return Sweep(row, difference(row.base, start, goal), start[1], goal[1])
+
+
+def distance_of_any(row, start, goal):
+    """Return the distance between two states whose numbers may be of any size."""
+    return least_cost(sweep_of_any(row, start, goal))
 
 
 def least_cost(sweep):
@@ -162,6 +173,16 @@ def is_plan(row, start, goal, value):
         return False
     parts = [(digit, low + index) for index, digit in enumerate(digits)]
     return sum_of(row.base, parts) == difference(row.base, start, goal)
+
+
+def sequence_through(position, stops):
+    """Return the sequence that goes from stop to stop (place, digit) and makes the digit at each."""
+    runs = []
+    for place, digit in stops:
+        runs.append(move_run(place - position))
+        runs.append(digit_run(digit))
+        position = place
+    return merged(runs)
 
 
 def move_run(offset):

@@ -44,6 +44,19 @@ def worth(base, number):
     return number[0] * Fraction(base) ** number[1]
 
 
+def form_of_worth(base, value):
+    """The numerator and the exponent, of any size, of the worth of a number."""
+    if value == 0:
+        return 0, 0
+    place = -2500
+    numerator = int(value / Fraction(base) ** place)
+    while numerator % base ** 50 == 0:
+        numerator, place = numerator // base ** 50, place + 50
+    while numerator % base == 0:
+        numerator, place = numerator // base, place + 1
+    return numerator, place
+
+
 def performed(base, state, text):
     """The worth and the position after each operation of a text, one by one."""
     amount, position = worth(base, state[0]), state[1]

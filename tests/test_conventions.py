@@ -3,7 +3,8 @@
 import inspect
 import unittest
 
-from abacushead import choices, effects, numbers, rows, running, sequences, shortest, states, tables
+from abacushead import (choices, effects, layers, limits, numbers, powers, rows, running, sequences, shortest, states,
+                        tables, targets)
 from abacushead.errors import InvalidNumber, InvalidRow
 from abacushead.numbers import floor_at, is_number, make_number, minus, plus, scaled
 from abacushead.rows import Row
@@ -36,6 +37,16 @@ SIGNATURES = {
         "check_table": "(row, start, goal, bound, value)",
     },
     choices: {"slacks": "(row, start, goal)", "first_operations": "(row, start, goal)"},
+    limits: {"shortest_within": "(row, start, goal, *, additions=None, places=None)"},
+    powers: {
+        "power": "(base, effect, exponent)", "root": "(base, effect, degree)", "commutes": "(base, one, other)",
+        "conjugate": "(base, one, by)", "conjugators": "(base, one, other)",
+    },
+    layers: {"layers": "(row, start, budget)", "greatest": "(row, start, budget)"},
+    targets: {
+        "to_number": "(row, start, number)", "to_interval": "(row, start, low, high)",
+        "to_residue": "(row, start, modulus, residue)",
+    },
 }
 
 FUNCTIONS = [(module, name) for module in SIGNATURES for name in SIGNATURES[module]]
@@ -69,6 +80,18 @@ CALLS = [
     (tables.check_table, {"value": [(0, None), (9, 1)], "bound": 4, "goal": GOAL, "row": ROW, "start": START}, True),
     (choices.slacks, {"goal": GOAL, "row": ROW, "start": START}, {"R": 0, "L": 2, "A": 2, "S": 0}),
     (choices.first_operations, {"goal": GOAL, "row": ROW, "start": START}, "RS"),
+    (limits.shortest_within, {"goal": GOAL, "row": ROW, "start": START}, (4, [("S", 1), ("R", 1), ("A", 1), ("L", 1)])),
+    (powers.power, {"exponent": 3, "effect": ((3, 0), 1), "base": 10}, ((333, 0), 3)),
+    (powers.root, {"degree": 3, "effect": ((333, 0), 3), "base": 10}, ((3, 0), 1)),
+    (powers.commutes, {"other": ((1, 0), 0), "one": ((3, 0), 1), "base": 10}, False),
+    (powers.conjugate, {"by": ((5, 0), 2), "one": ((3, 0), 0), "base": 10}, ((3, 2), 0)),
+    (powers.conjugators, {"other": ((1, 1), 2), "one": ((1, 0), 2), "base": 10}, [1]),
+    (layers.layers, {"budget": 3, "start": START, "row": ROW}, [1, 4, 12, 36]),
+    (layers.greatest, {"budget": 5, "start": START, "row": ROW}, ((1, 4), 4)),
+    (targets.to_number, {"number": (9, 0), "start": START, "row": ROW}, (3, 1)),
+    (targets.to_interval, {"high": 98, "low": 95, "start": START, "row": ROW}, (5, 98, 2)),
+    (targets.to_residue, {"residue": 3, "modulus": 7, "start": START, "row": Row(10, first=0)},
+     (2, [("R", 1), ("A", 1)])),
 ]
 
 
@@ -88,7 +111,8 @@ class ParametersTest(unittest.TestCase):
     def test_further_calls_by_position(self):
         for function, arguments, expected in CALLS:
             with self.subTest(function=function.__name__):
-                names = list(inspect.signature(function).parameters)
+                parameters = inspect.signature(function).parameters.values()
+                names = [parameter.name for parameter in parameters if parameter.default is parameter.empty]
                 self.assertEqual(function(*[arguments[name] for name in names]), expected)
 
     def test_iterators_by_name(self):
@@ -133,6 +157,15 @@ class ParametersTest(unittest.TestCase):
         with self.assertRaises(InvalidRow) as caught:
             Row(last=1001, base=1)
         self.assertEqual(caught.exception.field, "base")
+
+    def test_parameters_after_the_star(self):
+        shortest_within = limits.shortest_within
+        found = (9, [("A", 9)])
+        self.assertEqual(shortest_within(places=1, goal=GOAL, additions=9, row=ROW, start=START), found)
+        self.assertEqual(shortest_within(ROW, START, places=1, goal=GOAL), found)
+        self.assertEqual(shortest_within(ROW, START, GOAL, additions=None, places=1), found)
+        self.assertIsNone(shortest_within(ROW, START, GOAL, additions=1))
+        self.assertRaises(TypeError, shortest_within, ROW, START, GOAL, 1)
 
     def test_keyword_only_parameters(self):
         self.assertRaises(TypeError, Row, 10, 1)
