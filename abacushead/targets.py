@@ -24,7 +24,7 @@ class ResidueSweep:
         self.modulus = modulus
         self.places = places
         self.table = []
-        before = [None for residue in range(modulus)]
+        before = [None] * modulus
         for place in places:
             before = self.options_at(place, before)
             self.table.append(before)
@@ -32,17 +32,12 @@ class ResidueSweep:
     def options_at(self, place, before):
         """List the least costs and digits at a place, after those of the place before."""
         found = [None if option is None else (option[0] + self.row.move_cost, 0) for option in before]
-        begun = (self.begin_cost(place), 0)
-        if found[0] is None or begun < found[0]:
-            found[0] = begun
+        # No other way without a change is cheaper than the one that comes here directly.
+        found[0] = (self.row.move_cost * abs(place - self.position), 0)
         step = self.step_at(place)
         self.spread(found, step, 1)
         self.spread(found, -step, -1)
         return found
-
-    def begin_cost(self, place):
-        """Return the cost of the moves to a place where the way goes on in the direction of the sweep."""
-        return self.row.move_cost * abs(place - self.position)
 
     def step_at(self, place):
         """Return the residue of a one at a place."""
@@ -73,10 +68,11 @@ class ResidueSweep:
         stops = []
         while True:
             place = self.places[index]
-            cost, digit = self.table[index][residue]
+            digit = self.table[index][residue][1]
             stops.append((place, digit))
             residue = (residue - digit * self.step_at(place)) % self.modulus
-            if residue == 0 and cost - self.row.add_cost * abs(digit) == self.begin_cost(place):
+            # Without any change before it, the way comes to this place directly.
+            if residue == 0:
                 return stops[::-1]
             index -= 1
 
@@ -111,7 +107,8 @@ def to_residue(row, start, modulus, residue):
         raise InvalidRow("first")
     number, position = start
     change = (residue - residue_of(row.base, number, modulus)) % modulus
-    # The residues of the places on the right recur before there are as many as the modulus.
+    # The residues of the places recur after at most as many places as the modulus, so that
+    # places farther on the right have none that is new.
     end = min(MAX_PLACE if row.last is None else row.last, position + modulus)
     places = list(range(end + 1))
     sweeps = [ResidueSweep(row, position, modulus, way) for way in (places, places[::-1])]

@@ -48,8 +48,10 @@ def form_of_worth(base, value):
     """The numerator and the exponent, of any size, of the worth of a number."""
     if value == 0:
         return 0, 0
-    place = -2500
-    numerator = int(value / Fraction(base) ** place)
+    place = 0
+    while base ** -place % value.denominator:
+        place -= 50
+    numerator = value.numerator * (base ** -place // value.denominator)
     while numerator % base ** 50 == 0:
         numerator, place = numerator // base ** 50, place + 50
     while numerator % base == 0:
@@ -132,9 +134,10 @@ def searched(row, start, budget):
 
 def counted(row, start, goal):
     """The distance by all values that can be left over at each place, without a table."""
-    low = min(start[1], goal[1], start[0][1] if start[0][0] else 10 ** 9, goal[0][1] if goal[0][0] else 10 ** 9)
     ready, end = max(start[1], goal[1]), 1000 if row.last is None else row.last
-    value = (worth(row.base, goal[0]) - worth(row.base, start[0])) / Fraction(row.base) ** low
+    change = worth(row.base, goal[0]) - worth(row.base, start[0])
+    low = min([start[1], goal[1]] + ([form_of_worth(row.base, change)[1]] if change else []))
+    value = change / Fraction(row.base) ** low
     assert value.denominator == 1
     left, costs, place = {int(value): 0}, [], low
     while place <= end and (place <= ready or any(abs(value) > 1 for value in left)):

@@ -3,8 +3,8 @@
 import inspect
 import unittest
 
-from abacushead import (choices, effects, layers, limits, numbers, powers, rows, running, sequences, shortest, states,
-                        tables, targets)
+from abacushead import (choices, console, effects, layers, limits, numbers, powers, routes, rows, running, sequences,
+                        sessions, shortest, states, tables, targets, texts)
 from abacushead.errors import InvalidNumber, InvalidRow
 from abacushead.numbers import floor_at, is_number, make_number, minus, plus, scaled
 from abacushead.rows import Row
@@ -47,6 +47,28 @@ SIGNATURES = {
         "to_number": "(row, start, number)", "to_interval": "(row, start, low, high)",
         "to_residue": "(row, start, modulus, residue)",
     },
+    routes: {"route_cost": "(row, states)", "best_route": "(row, start, states)"},
+    texts: {
+        "format_number": "(number)", "format_state": "(state)", "format_effect": "(effect)",
+        "format_sequence": "(sequence)", "parse_number": "(base, text)", "parse_state": "(base, text)",
+        "parse_effect": "(base, text)", "parse_sequence": "(text)",
+    },
+}
+
+# The methods of each class, without the object itself.
+METHODS = {
+    rows.Row: {"__init__": "(base, *, move=1, add=1, first=None, last=None)", "has_place": "(value)"},
+    sessions.Session: {
+        "__init__": "(row, start, goal, budget)", "operate": "(user, operation)", "undo": "(user)",
+        "set_budget": "(value)", "log": "()", "attempt": "(visitor)", "is_within_reach": "()", "lost_by": "()",
+        "copy": "()", "replayed": "(row, start, goal, budget, log)", "is_user": "(value)",
+    },
+    sessions.StrictSession: {
+        "__init__": "(row, start, goal, budget)", "operate": "(user, operation)", "undo": "(user)",
+        "set_budget": "(value)", "log": "()", "attempt": "(visitor)", "is_within_reach": "()", "lost_by": "()",
+        "copy": "()", "replayed": "(row, start, goal, budget, log)", "is_user": "(value)",
+    },
+    console.Console: {"__init__": "(row)", "run": "(command)"},
 }
 
 FUNCTIONS = [(module, name) for module in SIGNATURES for name in SIGNATURES[module]]
@@ -92,6 +114,16 @@ CALLS = [
     (targets.to_interval, {"high": 98, "low": 95, "start": START, "row": ROW}, (5, 98, 2)),
     (targets.to_residue, {"residue": 3, "modulus": 7, "start": START, "row": Row(10, first=0)},
      (2, [("R", 1), ("A", 1)])),
+    (routes.route_cost, {"states": [START, GOAL], "row": ROW}, 4),
+    (routes.best_route, {"states": [GOAL, START], "start": START, "row": ROW}, (4, [1, 0])),
+    (texts.format_number, {"number": (-5, -1)}, "-5e-1"),
+    (texts.format_state, {"state": GOAL}, "9@0"),
+    (texts.format_effect, {"effect": ((3, 0), 1)}, "3:1"),
+    (texts.format_sequence, {"sequence": WAY}, "R2 A5 L"),
+    (texts.parse_number, {"text": "-5e-1", "base": 10}, (-5, -1)),
+    (texts.parse_state, {"text": "9@0", "base": 10}, GOAL),
+    (texts.parse_effect, {"text": "3:1", "base": 10}, ((3, 0), 1)),
+    (texts.parse_sequence, {"text": "R2 A5 L"}, WAY),
 ]
 
 
@@ -182,6 +214,44 @@ class ParametersTest(unittest.TestCase):
         self.assertEqual((row.base, row.move_cost, row.add_cost, row.first, row.last), (7, 1, 1, None, 3))
 
 
+class MethodsTest(unittest.TestCase):
+    def test_signatures(self):
+        for kind, methods in METHODS.items():
+            for name, expected in methods.items():
+                with self.subTest(kind=kind.__name__, name=name):
+                    found = str(inspect.signature(getattr(kind, name)))
+                    self.assertEqual(found.replace("(self, ", "(").replace("(self)", "()"), expected)
+
+    def test_sessions_by_name(self):
+        for kind in (sessions.Session, sessions.StrictSession):
+            session = kind(budget=5, goal=GOAL, start=START, row=ROW)
+            self.assertEqual(session.operate(operation="S", user="ann"), ((-1, 0), 0))
+            self.assertEqual(session.undo(user="ann"), START)
+            self.assertIsNone(session.set_budget(value=4))
+            self.assertEqual(session.budget, 4)
+            self.assertEqual(session.attempt(visitor=len), 0)
+            self.assertIs(session.is_user(value="ann"), True)
+            self.assertIs(kind.is_user(value="Ann"), False)
+            other = kind.replayed(log=[("ann", "S")], budget=5, goal=GOAL, start=START, row=ROW)
+            self.assertEqual(other.log(), [("ann", "S")])
+            self.assertEqual(len(other.copy()), 1)
+            self.assertEqual(session, kind(ROW, START, goal=GOAL, budget=4))
+            self.assertEqual(kind.replayed(ROW, START, GOAL, 5, [("ann", "S")]), other)
+
+    def test_console_by_name(self):
+        held = console.Console(row=ROW)
+        self.assertEqual(held.run(command="set x A"), "1")
+        self.assertEqual(held.run("names"), "x")
+
+    def test_arguments_of_methods_are_needed(self):
+        session = sessions.Session(ROW, START, GOAL, 5)
+        for call in (sessions.Session, sessions.StrictSession, console.Console, session.operate, session.undo,
+                     session.set_budget, session.attempt, session.is_user, sessions.Session.replayed,
+                     console.Console(ROW).run, lambda: session.operate("ann"),
+                     lambda: sessions.Session(ROW, START, GOAL)):
+            self.assertRaises(TypeError, call)
+
+
 class InterfaceTest(unittest.TestCase):
     def test_functions_are_defined_where_they_are_listed(self):
         for module, name in FUNCTIONS:
@@ -193,6 +263,11 @@ class InterfaceTest(unittest.TestCase):
     def test_functions_that_yield(self):
         yielding = [name for module, name in FUNCTIONS if inspect.isgeneratorfunction(getattr(module, name))]
         self.assertEqual(yielding, ["operations", "walk"])
+
+    def test_classes_are_defined_where_they_are_listed(self):
+        for kind, module in ((sessions.Session, sessions), (sessions.StrictSession, sessions),
+                             (console.Console, console), (rows.Row, rows)):
+            self.assertEqual(kind.__module__, module.__name__)
 
     def test_row_is_defined_where_it_is_listed(self):
         self.assertEqual(Row.__module__, rows.__name__)

@@ -119,7 +119,8 @@ class PowerTest(PowersCase):
             for number in some_long_numbers(base, 31, 10):
                 for offset, exponent in ((0, 2), (1, 3), (-2, 2), (5, -2), (-1, -3)):
                     effect = (number, offset)
-                    total = sum(worth(base, number) * Fraction(base) ** (offset * copy) for copy in range(abs(exponent)))
+                    total = sum(Fraction(base) ** (offset * copy) for copy in range(abs(exponent)))
+                    total *= worth(base, number)
                     if exponent < 0:
                         total *= -Fraction(base) ** (offset * exponent)
                     numerator, place = form_of_worth(base, total)

@@ -260,6 +260,17 @@ class ResidueTest(WaysCase):
                 for residue in range(modulus):
                     self.check_residue(row, ((5, 0), 3), modulus, residue)
 
+    def test_places_with_a_common_divisor(self):
+        # Here a one at a place leads round through some of the residues only.
+        self.assertEqual(to_residue(Row(4, move=5, add=3, first=0, last=2), ZERO, 28, 7)[0], 14)
+        self.assertEqual(to_residue(Row(5, first=0, last=2), ZERO, 25, 9)[0], 4)
+        for row, modulus in ((Row(4, move=5, add=3, first=0, last=2), 28), (Row(4, add=3, first=0, last=2), 36),
+                             (Row(5, first=0, last=2), 25), (Row(5, move=5, add=10, first=0), 40),
+                             (Row(6, add=3, first=0, last=3), 30), (Row(6, move=3, first=0), 33)):
+            for position in (0, 1):
+                for residue in range(modulus):
+                    self.check_residue(row, ((0, 0), position), modulus, residue)
+
     def test_far_to_the_right(self):
         # From the places 5, 3 and 2 on, all places are multiples of the modulus.
         for base, modulus in ((2, 32), (10, 8), (36, 36), (10, 40), (6, 24), (2, 40), (10, 37), (30, 36)):
